@@ -574,7 +574,7 @@ func callAll(c api.Config, n int) {
 	topo.Majority(c, n)
 }
 
-// Configurations for which Valid returns an error must do no harm either.
+// Configurations for which Valid returns an error must do no harm either, and stay as they are.
 func TestR1InvalidConfigurations(t *testing.T) {
 	var l []api.Config
 	for _, x := range slices.Concat(lengths(), places(), numbers()) {
@@ -594,8 +594,12 @@ func TestR1InvalidConfigurations(t *testing.T) {
 	}
 	l = append(l, api.Config{}, api.Config{Regions: math.MaxInt}, api.Config{Cells: []api.Cell{{}}, Replicas: []int{0}})
 	for _, c := range l {
+		want := clone(c)
 		for _, n := range sets() {
 			callAll(c, n)
+		}
+		if !reflect.DeepEqual(c, want) {
+			t.Errorf("a configuration has become %v, not %v", c, want)
 		}
 	}
 }
