@@ -170,8 +170,11 @@ func exceeded() []change {
 		{"no cells", func(c *api.Config) { c.Cells = nil }},
 		{"too many cells", func(c *api.Config) { c.Cells = slices.Repeat(c.Cells[:1], api.MaxCells+1) }},
 		{"no versions", func(c *api.Config) { c.Versions = nil }},
+		{"too many versions", func(c *api.Config) { c.Versions = slices.Repeat(c.Versions[:1], api.MaxVersions+1) }},
 		{"no replicas", func(c *api.Config) { c.Replicas = nil }},
+		{"too many replicas", func(c *api.Config) { c.Replicas = slices.Repeat(c.Replicas[:1], api.MaxReplicas+2) }},
 		{"no observers", func(c *api.Config) { c.Observers = nil }},
+		{"too many observers", func(c *api.Config) { c.Observers = slices.Repeat(c.Observers[:1], api.MaxObservers+1) }},
 		{"too many tenants", func(c *api.Config) { c.Tenants = slices.Repeat(c.Tenants[:1], api.MaxTenants+1) }},
 	}
 }
